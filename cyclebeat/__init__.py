@@ -1,0 +1,1 @@
+"""Cyclebeat: patterns of events over cycles of time."""
