@@ -1,9 +1,9 @@
 """The events of patterns."""
 
 from cyclebeat.errors import InvalidCycle, InvalidTime
-from cyclebeat.fraction import lowest
 from cyclebeat.moments import is_cycle, is_time
 from cyclebeat.reader import read_pattern
+from cyclebeat.table import as_fractions, list_cycles
 from cyclebeat.timeline import fitting_grid, touching_events
 
 LONGEST_WINDOW = 20
@@ -15,9 +15,7 @@ def cycle_events(pattern, cycle):
     if not is_cycle(cycle):
         raise InvalidCycle("the cycle is not an integer from 0 to 10 ** 18")
     grid = fitting_grid(unit)
-    begin = cycle * grid
-    events = touching_events(unit, cycle, cycle + 1, grid)
-    return _as_fractions([(start - begin, length, word) for start, length, word in events if start >= begin], grid)
+    return as_fractions(list_cycles(unit, cycle, cycle + 1, grid)[0], grid)
 
 
 def window_events(pattern, start, end):
@@ -29,7 +27,7 @@ def window_events(pattern, start, end):
         raise InvalidTime("the window ends before it starts, or is too long")
     grid = fitting_grid(unit)
     events = touching_events(unit, start[0] // start[1], end[0] // end[1] + 1, grid)
-    return _as_fractions([event for event in events if _is_within(event[0], grid, start, end)], grid)
+    return as_fractions(sorted([event for event in events if _is_within(event[0], grid, start, end)]), grid)
 
 
 def sounding_events(pattern, time):
@@ -39,7 +37,7 @@ def sounding_events(pattern, time):
     grid = fitting_grid(unit)
     cycle = time[0] // time[1]
     events = touching_events(unit, cycle, cycle + 1, grid)
-    return _as_fractions([event for event in events if _is_sounding(event, grid, time)], grid)
+    return as_fractions(sorted([event for event in events if _is_sounding(event, grid, time)]), grid)
 
 
 def _check_time(time):
@@ -61,8 +59,3 @@ def _is_sounding(event, grid, time):
     begin, length, _ = event
     now = time[0] * grid
     return begin * time[1] <= now < (begin + length) * time[1]
-
-
-def _as_fractions(events, grid):
-    """Sort events on a grid, where integers compare as the times do, and return them with fractions."""
-    return [(lowest(start, grid), lowest(length, grid), word) for start, length, word in sorted(events)]

@@ -8,10 +8,25 @@ from cyclebeat.tokens import split_tokens
 
 def read_pattern(pattern):
     """Return the tree of a valid pattern, else raise SyntaxFault or CheckFault."""
+    return read_patterns([pattern])[0]
+
+
+def read_patterns(patterns):
+    """Return the trees of valid patterns, else raise SyntaxFault or CheckFault for the first invalid one.
+
+    The interface lists SyntaxFault before CheckFault: all patterns are parsed before any is checked.
+    """
+    parsed = []
+    for pattern in patterns:
+        tokens = _split_string(pattern)
+        parsed.append((tokens, parse_tokens(tokens)))
+    for tokens, unit in parsed:
+        check_tokens(tokens)
+        check_weight(unit)
+    return [unit for _, unit in parsed]
+
+
+def _split_string(pattern):
     if not isinstance(pattern, str):
         raise SyntaxFault(0)
-    tokens = split_tokens(pattern)
-    unit = parse_tokens(tokens)
-    check_tokens(tokens)
-    check_weight(unit)
-    return unit
+    return split_tokens(pattern)

@@ -31,6 +31,13 @@ def is_word(text):
     return text != "" and text[0] in LETTERS and text not in KEYWORDS
 
 
+def is_free_word(value):
+    """Return whether any value is a word that may stand in a pattern."""
+    if not isinstance(value, str) or not 1 <= len(value) <= LONGEST_WORD:
+        return False
+    return value not in KEYWORDS and all([letter in LETTERS for letter in value])
+
+
 def is_number(text):
     """Return whether the text of a token is a number."""
     return text != "" and text[0] in DIGITS

@@ -28,3 +28,10 @@ def check_fault(reason, place):
 
 INVALID_CYCLE = ("InvalidCycle", {})
 INVALID_TIME = ("InvalidTime", {})
+INVALID_NUMBER = ("InvalidNumber", {})
+INVALID_WORD = ("InvalidWord", {})
+TOO_LONG = ("TooLong", {})
+
+
+def invalid_events(place):
+    return ("InvalidEvents", {"place": place})

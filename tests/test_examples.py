@@ -2,9 +2,13 @@
 
 import unittest
 
+from cyclebeat.builder import build_pattern
 from cyclebeat.events import cycle_events, sounding_events, window_events
 from cyclebeat.formatter import format_pattern, measure
-from tests.faults import check_fault, fault_of, syntax_fault
+from cyclebeat.periods import (are_equal, average_events, count_events, find_period, first_difference, next_event,
+                               nth_event, tabulate, word_shares)
+from cyclebeat.simplifier import simplify
+from tests.faults import check_fault, fault_of, invalid_events, syntax_fault
 
 
 class ExampleTest(unittest.TestCase):
@@ -32,11 +36,56 @@ class ExampleTest(unittest.TestCase):
     def test_sounding_events(self):
         self.assertEqual(sounding_events("[a:2 + (b c)]", (5, 4)), [((0, 1), (2, 1), "a"), ((1, 1), (1, 2), "b")])
 
+    def test_find_period(self):
+        self.assertEqual(find_period("(a {b c d})"), 3)
+
+    def test_tabulate(self):
+        self.assertEqual(tabulate("{a _}"), [[((0, 1), (1, 1), "a")], []])
+
+    def test_first_difference(self):
+        self.assertEqual(first_difference("{a b}", "{a b a}"), (3, (0, 1), (1, 1), "a", 1))
+
+    def test_first_difference_of_equal_patterns(self):
+        self.assertIsNone(first_difference("{(a b) (a c)}", "(a {b c})"))
+
+    def test_are_equal(self):
+        self.assertIs(are_equal("(a a)", "a^2"), True)
+
+    def test_count_events(self):
+        self.assertEqual(count_events("{a _ (b b)}", 1, 8), 6)
+
+    def test_nth_event(self):
+        self.assertEqual(nth_event("{a _ (b b)}", 5), (5, (1, 2), (1, 2), "b"))
+
+    def test_average_events(self):
+        self.assertEqual(average_events("{a (b b)}"), (3, 2))
+
+    def test_next_event(self):
+        self.assertEqual(next_event("{a _ (b c)}", "c", 3), (5, (1, 2), (1, 2)))
+
+    def test_word_shares(self):
+        self.assertEqual(word_shares("{a (b b a)}"), [("a", 2, (4, 3)), ("b", 2, (2, 3))])
+
+    def test_simplify(self):
+        self.assertEqual(simplify("[(a) + _ + mirror(mirror((b c)))]^1"), "[a + (b c)]")
+
+    def test_build_pattern(self):
+        pattern = build_pattern([[((1, 4), (1, 2), "a")], []])
+        self.assertEqual([cycle_events(pattern, 0), cycle_events(pattern, 1)], [[((1, 4), (1, 2), "a")], []])
+
+    def test_build_pattern_with_an_invalid_cycle(self):
+        self.assertEqual(fault_of(build_pattern, [[], [5]]), invalid_events(1))
+
     def test_functions_are_defined_where_they_are_listed(self):
         for function in (format_pattern, measure):
             self.assertEqual(function.__module__, "cyclebeat.formatter")
         for function in (cycle_events, window_events, sounding_events):
             self.assertEqual(function.__module__, "cyclebeat.events")
+        for function in (find_period, tabulate, first_difference, are_equal, count_events, nth_event, average_events,
+                         next_event, word_shares):
+            self.assertEqual(function.__module__, "cyclebeat.periods")
+        self.assertEqual(simplify.__module__, "cyclebeat.simplifier")
+        self.assertEqual(build_pattern.__module__, "cyclebeat.builder")
 
     def test_arguments_have_the_names_of_the_interface(self):
         self.assertEqual(format_pattern(pattern="a"), "a")
@@ -45,6 +94,19 @@ class ExampleTest(unittest.TestCase):
         self.assertEqual(cycle_events(pattern="a", cycle=0), whole)
         self.assertEqual(window_events(pattern="a", start=(0, 1), end=(1, 1)), whole)
         self.assertEqual(sounding_events(pattern="a", time=(1, 2)), whole)
+
+    def test_arguments_of_periods_have_the_names_of_the_interface(self):
+        self.assertEqual(find_period(pattern="a"), 1)
+        self.assertEqual(tabulate(pattern="_"), [[]])
+        self.assertIsNone(first_difference(first="a", second="a"))
+        self.assertIs(are_equal(first="a", second="a"), True)
+        self.assertEqual(count_events(pattern="a", start=0, end=2), 2)
+        self.assertEqual(nth_event(pattern="a", number=1), (1, (0, 1), (1, 1), "a"))
+        self.assertEqual(average_events(pattern="a"), (1, 1))
+        self.assertEqual(next_event(pattern="a", word="a", cycle=1), (1, (0, 1), (1, 1)))
+        self.assertEqual(word_shares(pattern="_"), [])
+        self.assertEqual(simplify(pattern="(a)"), "a")
+        self.assertEqual(cycle_events(build_pattern(cycles=[[]]), 0), [])
 
 
 if __name__ == "__main__":

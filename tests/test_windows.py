@@ -86,8 +86,9 @@ class RandomSoundingTest(unittest.TestCase):
         slow = ("slow", 9, ("slow", 8, ("word", "a")))
         around = [
             ("seq", (slow, ("word", "b"), ("rest",))), ("seq", (("word", "b"), slow)),
-            ("turn", (slow, slow, ("rest",))), ("turn", (("rest",), slow)), ("stack", (slow, slow)), ("late", 2, 3, slow), ("mirror", slow),
-            ("mirror", ("late", 1, 3, slow)), ("each", 6, slow, ("rest",)), ("each", 5, ("rest",), slow),
+            ("turn", (slow, slow, ("rest",))), ("turn", (("rest",), slow)), ("stack", (slow, slow)),
+            ("late", 2, 3, slow), ("mirror", slow), ("mirror", ("late", 1, 3, slow)), ("each", 6, slow, ("rest",)),
+            ("each", 5, ("rest",), slow),
             ("fast", 5, slow), ("fast", 5, ("seq", (("rest",), slow))), ("slow", 2, ("seq", (("rest",), slow))),
             ("seq", (("rest",), ("turn", (("rest",), ("late", 3, 4, ("seq", (("rest",), slow))))))),
             ("turn", (("rest",), ("seq", (("rest",), ("mirror", ("late", 3, 4, slow)))))),
