@@ -1,9 +1,10 @@
 """Builds patterns from events."""
 
-from cyclebeat.checker import LARGEST_DIVISOR, LARGEST_NUMBER
+from cyclebeat.checker import LARGEST_NUMBER
 from cyclebeat.errors import InvalidEvents
 from cyclebeat.formatter import format_unit
 from cyclebeat.fraction import is_fraction
+from cyclebeat.moments import is_offset
 from cyclebeat.simplifier import simplify_unit
 from cyclebeat.tokens import is_free_word
 from cyclebeat.tree import Unit, count_units
@@ -33,11 +34,7 @@ def _is_event(item):
     if not isinstance(item, tuple) or len(item) != 3:
         return False
     offset, length, word = item
-    return _is_offset(offset) and _is_length(length) and is_free_word(word)
-
-
-def _is_offset(value):
-    return is_fraction(value) and 0 <= value[0] < value[1] <= LARGEST_DIVISOR
+    return is_offset(offset) and _is_length(length) and is_free_word(word)
 
 
 def _is_length(value):

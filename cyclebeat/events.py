@@ -3,7 +3,7 @@
 from cyclebeat.errors import InvalidCycle, InvalidTime
 from cyclebeat.moments import is_cycle, is_time
 from cyclebeat.reader import read_pattern
-from cyclebeat.table import as_fractions, list_cycles
+from cyclebeat.table import as_fractions, list_cycle
 from cyclebeat.timeline import fitting_grid, touching_events
 
 LONGEST_WINDOW = 20
@@ -14,8 +14,7 @@ def cycle_events(pattern, cycle):
     unit = read_pattern(pattern)
     if not is_cycle(cycle):
         raise InvalidCycle("the cycle is not an integer from 0 to 10 ** 18")
-    grid = fitting_grid(unit)
-    return as_fractions(list_cycles(unit, cycle, cycle + 1, grid)[0], grid)
+    return list_cycle(unit, cycle)
 
 
 def window_events(pattern, start, end):

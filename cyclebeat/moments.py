@@ -1,5 +1,6 @@
-"""Which cycles and times callers may pass."""
+"""Which cycles, times and offsets callers may pass."""
 
+from cyclebeat.checker import LARGEST_DIVISOR
 from cyclebeat.fraction import is_fraction, is_whole
 
 LATEST = 10 ** 18
@@ -16,3 +17,8 @@ def is_time(value):
         return False
     numerator, denominator = value
     return 0 <= numerator <= LATEST * denominator
+
+
+def is_offset(value):
+    """Return whether any value is a part of a cycle by which something may be shifted."""
+    return is_fraction(value) and 0 <= value[0] < value[1] <= LARGEST_DIVISOR

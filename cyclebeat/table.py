@@ -3,7 +3,7 @@
 from math import gcd, lcm
 
 from cyclebeat.fraction import lowest
-from cyclebeat.timeline import touching_events
+from cyclebeat.timeline import fitting_grid, touching_events
 
 LONGEST_TABLE = 1000
 
@@ -38,3 +38,9 @@ def list_cycles(unit, first, last, grid):
 def as_fractions(events, grid):
     """Return events on a grid with fractions, in the same order."""
     return [(lowest(start, grid), lowest(length, grid), word) for start, length, word in events]
+
+
+def list_cycle(unit, cycle):
+    """Return the sorted (offset, length, word) of a single cycle, with fractions."""
+    grid = fitting_grid(unit)
+    return as_fractions(list_cycles(unit, cycle, cycle + 1, grid)[0], grid)

@@ -31,11 +31,16 @@ def is_word(text):
     return text != "" and text[0] in LETTERS and text not in KEYWORDS
 
 
-def is_free_word(value):
-    """Return whether any value is a word that may stand in a pattern."""
+def is_name(value):
+    """Return whether any value is a string of one to eight letters; a keyword is one, too."""
     if not isinstance(value, str) or not 1 <= len(value) <= LONGEST_WORD:
         return False
-    return value not in KEYWORDS and all([letter in LETTERS for letter in value])
+    return all([letter in LETTERS for letter in value])
+
+
+def is_free_word(value):
+    """Return whether any value is a word that may stand in a pattern."""
+    return is_name(value) and value not in KEYWORDS
 
 
 def is_number(text):

@@ -33,5 +33,21 @@ INVALID_WORD = ("InvalidWord", {})
 TOO_LONG = ("TooLong", {})
 
 
+INVALID_NAME = ("InvalidName", {})
+UNKNOWN_NAME = ("UnknownName", {})
+
+
 def invalid_events(place):
     return ("InvalidEvents", {"place": place})
+
+
+def invalid_code(place):
+    return ("InvalidCode", {"place": place})
+
+
+def invalid_operation(place):
+    return ("InvalidOperation", {"place": place})
+
+
+def invalid_session(place):
+    return ("InvalidSession", {"place": place})

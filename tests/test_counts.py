@@ -6,7 +6,7 @@ import unittest
 from cyclebeat.periods import average_events, count_events, next_event, nth_event, word_shares
 from tests.tables import (average_of, bounded_tree, event_with_number, next_with_word, number_of_events,
                           shares_of, small_tree, words_of)
-from tests.trees import canonical, join_tokens, tokens_of
+from tests.trees import join_tokens, tokens_of
 
 HUGE = 10 ** 18
 

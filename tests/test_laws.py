@@ -6,7 +6,7 @@ from fractions import Fraction
 
 from cyclebeat.events import cycle_events, sounding_events, window_events
 from tests.oracle import as_fractions, as_pair, as_pairs
-from tests.trees import canonical, is_valid, units, valid_tree
+from tests.trees import canonical, is_valid, valid_tree
 
 HUGE = 10 ** 18
 

@@ -162,16 +162,20 @@ def join_tokens(tokens, rng=None):
 
 def expected_fault(tree, rng=None):
     """Return the text of a tree, and the (reason, place) of the CheckFault that it must raise, or None."""
-    marked = marked_tokens(tree)
-    text, places = join_tokens([token for token, _ in marked], rng)
+    text, places = join_tokens(tokens_of(tree), rng)
+    return text, first_limit(tree, places)
+
+
+def first_limit(tree, places):
+    """Return the (reason, place) of the first limit that a tree goes beyond, by the places of its tokens, or None."""
     many = 0
-    for (_, mark), place in zip(marked, places):
+    for (_, mark), place in zip(marked_tokens(tree), places):
         if mark == "number":
-            return text, ("number", place)
+            return ("number", place)
         if mark is not None:
             many += 1
             if many == 61:
-                return text, ("size", place)
+                return ("size", place)
             if mark >= 12:
-                return text, ("depth", place)
-    return text, ("events", 0) if weight(tree) > 500 else None
+                return ("depth", place)
+    return ("events", 0) if weight(tree) > 500 else None
